@@ -50,6 +50,71 @@ def few_numbers(prime):
     return told[:prime + 2] + told[prime + 2::len(told) // 40] + told[-6:]
 
 
+FAR = [GREATEST + 1, 10 ** 31 + 7, 10 ** 40 - 1]
+FAR_OFF = FAR + [-number for number in FAR] + [-GREATEST]
+
+
+def pascal_rows(most):
+    """Pascal's rows of nought to so many things, by sums of neighbours."""
+    row = [1]
+    yield row
+    for _ in range(most):
+        row = [1] + [one + other for one, other in zip(row, row[1:])] + [1]
+        yield row
+
+
+def taken_apart(number, prime):
+    """How often the prime goes into the number, and what is then left of it."""
+    often = 0
+    while number % prime == 0:
+        number //= prime
+        often += 1
+    return often, number
+
+
+def great_rows(prime):
+    """Numbers of things of each sort, from small ones to 10 ** 30 itself."""
+    told = [0, 1, 2, 3, prime - 1, prime, prime + 1, 100, 130, 123456789, 987654321987654321, GREATEST // 3]
+    all_powers = powers(prime)
+    for power in all_powers[1:4] + all_powers[len(all_powers) // 2:][:1] + all_powers[-2:]:
+        for times in (1, 2, (prime + 1) // 2, prime - 1):
+            told += [times * power - 1, times * power]
+        told += [power + 1, power + 5, power + prime - 1, power * (prime + 1), power * 123456]
+    told += [GREATEST - prime, GREATEST - 1, GREATEST]
+    return sorted({number for number in told if 0 <= number <= GREATEST})
+
+
+def under(many, prime):
+    """Numbers with no figure above that of the things at the same place, and some with just one above it."""
+    patterns = (
+        lambda place, figure: figure // 2,
+        lambda place, figure: figure if place % 2 else 0,
+        lambda place, figure: 0 if place % 3 else figure,
+        lambda place, figure: (7 * place + 3) % (figure + 1),
+        lambda place, figure: min(figure, 1),
+    )
+    for pattern in patterns:
+        told, left, unit, clear = 0, many, 1, None
+        while left:
+            left, figure = divmod(left, prime)
+            told += pattern(unit.bit_length(), figure) * unit
+            if figure == 0 and clear is None:
+                clear = unit
+            unit *= prime
+        yield told
+        if clear:
+            yield told + clear
+
+
+def chosen(many, prime):
+    """Numbers of chosen ones, or places: about nought, about all, about half, and free ones."""
+    told = [-10 ** 40 + 1, -GREATEST, -prime, -2, -1, 0, 1, 2, 3, prime - 1, prime, prime + 1]
+    told += [many + more for more in (-prime, -2, -1, 0, 1, 2, prime)] + [10 ** 40 - 1]
+    told += [many // 2 + more for more in (-1, 0, 1)] + [many // 3, many // prime, many - many // prime]
+    told += list(under(many, prime))
+    return sorted(set(told))
+
+
 def check_refused(test, refusal, function, *arguments):
     """The call is refused with just this class of the four, and with those above it."""
     with test.subTest(function=function.__name__, arguments=arguments):
